@@ -1,0 +1,83 @@
+package lot
+
+import (
+	"cmp"
+	"strings"
+
+	"forecourt/api"
+	"forecourt/basic"
+)
+
+// Check says whether a log is right.
+func Check(f api.Fleet, l []api.Event) api.Errno {
+	if e := CheckFleet(f); e != api.OK {
+		return e
+	}
+	if len(l) > api.MaxEvents {
+		return api.ErrLarge
+	}
+	for i, v := range l {
+		if e := checkEvent(f, v); e != api.OK {
+			return e
+		}
+		if i > 0 && compareEvents(l[i-1], v) >= 0 {
+			return api.ErrOrder
+		}
+	}
+	return api.OK
+}
+
+// checkEvent checks an event of a fleet that is right.
+func checkEvent(f api.Fleet, v api.Event) api.Errno {
+	leaves := v.Kind == api.EventLeave
+	switch {
+	case !basic.IsMoment(v.At):
+		return api.ErrArg
+	case !hasVehicle(f, v.Vehicle) || !hasStation(f, v.Station):
+		return api.ErrNone
+	case v.Kind < api.EventEnter || v.Kind > api.EventGone:
+		return api.ErrKind
+	case v.To != "" && !leaves:
+		return api.ErrForm
+	case leaves && !hasStation(f, v.To):
+		return api.ErrNone
+	case v.To == v.Station:
+		return api.ErrLoop
+	}
+	return api.OK
+}
+
+func compareEvents(a, b api.Event) int {
+	return cmp.Or(cmp.Compare(a.At, b.At), strings.Compare(a.Vehicle, b.Vehicle))
+}
+
+// Merge puts two logs together.
+func Merge(f api.Fleet, a, b []api.Event) ([]api.Event, api.Errno) {
+	if e := Check(f, a); e != api.OK {
+		return nil, e
+	}
+	if e := Check(f, b); e != api.OK {
+		return nil, e
+	}
+	merged := make([]api.Event, 0, len(a)+len(b))
+	for len(a) > 0 && len(b) > 0 {
+		order := compareEvents(a[0], b[0])
+		if order == 0 && a[0] != b[0] {
+			return nil, api.ErrConflict
+		}
+		if order > 0 {
+			a, b = b, a
+		}
+		merged = append(merged, a[0])
+		a = a[1:]
+		if order == 0 {
+			b = b[1:]
+		}
+	}
+	merged = append(merged, a...)
+	merged = append(merged, b...)
+	if len(merged) > api.MaxEvents {
+		return nil, api.ErrLarge
+	}
+	return merged, api.OK
+}
