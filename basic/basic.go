@@ -91,12 +91,21 @@ func Words(line string) []string {
 	return words
 }
 
-// Whole returns a text that was written, if it can be read again.
-func Whole(text string) (string, api.Errno) {
-	if len(text) > api.MaxText {
+// Writer writes lines of words.
+type Writer struct{ text strings.Builder }
+
+// Line writes a line.
+func (w *Writer) Line(words ...string) {
+	w.text.WriteString(strings.Join(words, " "))
+	w.text.WriteByte('\n')
+}
+
+// Whole returns the text that was written, if it can be read again.
+func (w *Writer) Whole() (string, api.Errno) {
+	if w.text.Len() > api.MaxText {
 		return "", api.ErrLarge
 	}
-	return text, api.OK
+	return w.text.String(), api.OK
 }
 
 func isSmall(c byte) bool { return c >= 'a' && c <= 'z' }

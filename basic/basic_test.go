@@ -148,12 +148,28 @@ func TestWords(t *testing.T) {
 	}
 }
 
-func TestWhole(t *testing.T) {
-	text := strings.Repeat("x", api.MaxText)
-	if s, e := basic.Whole(text); s != text || e != api.OK {
-		t.Errorf("MaxText bytes: %d", e)
+func TestWriter(t *testing.T) {
+	var none basic.Writer
+	if s, e := none.Whole(); s != "" || e != api.OK {
+		t.Errorf("nothing: %q, %d", s, e)
 	}
-	if s, e := basic.Whole(text + "x"); s != "" || e != api.ErrLarge {
-		t.Errorf("more than MaxText bytes: %d", e)
+	var some basic.Writer
+	some.Line("a", "bc", "-1")
+	some.Line()
+	some.Line("d")
+	if s, e := some.Whole(); s != "a bc -1\n\nd\n" || e != api.OK {
+		t.Errorf("lines: %q, %d", s, e)
+	}
+}
+
+func TestWriterLarge(t *testing.T) {
+	var w basic.Writer
+	w.Line(strings.Repeat("x", api.MaxText-1))
+	if s, e := w.Whole(); len(s) != api.MaxText || e != api.OK {
+		t.Errorf("MaxText bytes: %d, %d", len(s), e)
+	}
+	w.Line()
+	if s, e := w.Whole(); s != "" || e != api.ErrLarge {
+		t.Errorf("more than MaxText bytes: %d, %d", len(s), e)
 	}
 }

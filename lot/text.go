@@ -16,35 +16,28 @@ func TextFleet(f api.Fleet) (string, api.Errno) {
 	if e := CheckFleet(f); e != api.OK {
 		return "", e
 	}
-	var lines lineWriter
+	var lines basic.Writer
 	for _, s := range f.Stations {
 		words := []string{"station", s.Key}
 		for _, h := range s.Hours {
 			words = append(words, strconv.Itoa(h.From)+"-"+strconv.Itoa(h.To))
 		}
-		lines.add(words...)
+		lines.Line(words...)
 	}
 	for _, c := range f.Classes {
 		up := c.Up
 		if up == "" {
 			up = none
 		}
-		lines.add("class", c.Key, up)
+		lines.Line("class", c.Key, up)
 	}
 	for _, v := range f.Vehicles {
-		lines.add("vehicle", v.Key, v.Class)
+		lines.Line("vehicle", v.Key, v.Class)
 	}
 	for _, p := range f.Plates {
-		lines.add("plate", strconv.Itoa(p.From), p.Vehicle, p.Plate)
+		lines.Line("plate", strconv.Itoa(p.From), p.Vehicle, p.Plate)
 	}
-	return basic.Whole(lines.text.String())
-}
-
-type lineWriter struct{ text strings.Builder }
-
-func (w *lineWriter) add(words ...string) {
-	w.text.WriteString(strings.Join(words, " "))
-	w.text.WriteByte('\n')
+	return lines.Whole()
 }
 
 // ReadFleet reads a fleet.
@@ -189,15 +182,15 @@ func Text(f api.Fleet, l []api.Event) (string, api.Errno) {
 	if e := Check(f, l); e != api.OK {
 		return "", e
 	}
-	var lines lineWriter
+	var lines basic.Writer
 	for _, v := range l {
 		words := []string{strconv.Itoa(v.At), v.Vehicle, eventWords[v.Kind], v.Station}
 		if v.Kind == api.EventLeave {
 			words = append(words, v.To)
 		}
-		lines.add(words...)
+		lines.Line(words...)
 	}
-	return basic.Whole(lines.text.String())
+	return lines.Whole()
 }
 
 // Read reads a log.
