@@ -1,7 +1,8 @@
-// Package basic has the rules for strings and times that all chapters share (Z9 to Z11).
+// Package basic has the rules for numbers, strings and times that all chapters share (Z9 to Z11).
 package basic
 
 import (
+	"strconv"
 	"strings"
 
 	"forecourt/api"
@@ -39,6 +40,9 @@ func IsMoment(at int) bool { return at >= 0 && at < api.End }
 // IsWindow says whether a window of time is right.
 func IsWindow(w api.Window) bool { return 0 <= w.From && w.From <= w.To && w.To <= api.End }
 
+// IsTime says whether a window can be the time of a hire or of a booking: it has moments, and ends before End.
+func IsTime(w api.Window) bool { return 0 <= w.From && w.From < w.To && w.To < api.End }
+
 // Number reads a number of at most 9 digits.
 func Number(s string) (int, bool) {
 	digits, below := strings.CutPrefix(s, "-")
@@ -65,6 +69,30 @@ func Natural(s string) (int, bool) {
 	return n, true
 }
 
+// Numbers reads a number from each word, into the field of its place. It says whether there are as many words as fields, and all of them are numbers.
+func Numbers(words []string, fields ...*int) bool {
+	if len(words) != len(fields) {
+		return false
+	}
+	for i, field := range fields {
+		n, ok := Number(words[i])
+		if !ok {
+			return false
+		}
+		*field = n
+	}
+	return true
+}
+
+// Decimals writes numbers.
+func Decimals(numbers ...int) []string {
+	words := make([]string, len(numbers))
+	for i, n := range numbers {
+		words[i] = strconv.Itoa(n)
+	}
+	return words
+}
+
 // Lines hands each line of a text to read, until this finds no form in one, or one is not ended. It returns the number of this line for ErrSyntax, otherwise 0.
 func Lines(text string, read func(line string) bool) (int, api.Errno) {
 	if len(text) > api.MaxText {
@@ -78,6 +106,25 @@ func Lines(text string, read func(line string) bool) (int, api.Errno) {
 		text = rest
 	}
 	return 0, api.OK
+}
+
+// List reads an element from the words of each line of a text, and checks all of them. The int is as that of Lines.
+func List[T any](text string, read func(words []string) (T, bool), check func(l []T) api.Errno) ([]T, int, api.Errno) {
+	var l []T
+	line, e := Lines(text, func(line string) bool {
+		x, ok := read(Words(line))
+		if ok {
+			l = append(l, x)
+		}
+		return ok
+	})
+	if e != api.OK {
+		return nil, line, e
+	}
+	if e := check(l); e != api.OK {
+		return nil, 0, e
+	}
+	return l, 0, api.OK
 }
 
 // Words returns the words of a line; none, if one of them is empty.

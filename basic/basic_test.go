@@ -66,6 +66,19 @@ func TestIsWindow(t *testing.T) {
 	}
 }
 
+func TestIsTime(t *testing.T) {
+	for _, w := range []api.Window{{To: 1}, {From: 0, To: api.End - 1}, {From: api.End - 2, To: api.End - 1}} {
+		if !basic.IsTime(w) {
+			t.Errorf("%v is right", w)
+		}
+	}
+	for _, w := range []api.Window{{}, {From: -1, To: 5}, {From: 5, To: 5}, {From: 6, To: 5}, {From: 0, To: api.End}, {From: math.MinInt, To: math.MaxInt}, {From: math.MinInt, To: math.MinInt}, {From: math.MaxInt, To: math.MinInt}} {
+		if basic.IsTime(w) {
+			t.Errorf("%v is not right", w)
+		}
+	}
+}
+
 func TestNumber(t *testing.T) {
 	for s, want := range map[string]int{"0": 0, "7": 7, "10": 10, "-1": -1, "-10": -10, "999999999": 999_999_999, "-999999999": -999_999_999} {
 		if n, ok := basic.Number(s); n != want || !ok {
@@ -88,6 +101,60 @@ func TestNatural(t *testing.T) {
 	for _, s := range []string{"", "-1", "-0", "00", "01", "1000000000", "1x"} {
 		if n, ok := basic.Natural(s); n != 0 || ok {
 			t.Errorf("Natural(%q) = %d, %v", s, n, ok)
+		}
+	}
+}
+
+func TestNumbers(t *testing.T) {
+	var a, b int
+	if !basic.Numbers([]string{"5", "-7"}, &a, &b) || a != 5 || b != -7 {
+		t.Errorf("got %d and %d", a, b)
+	}
+	if !basic.Numbers(nil) {
+		t.Error("no words for no fields are right")
+	}
+	for _, words := range [][]string{nil, {"5"}, {"5", "6", "7"}, {"x", "5"}, {"5", "x"}, {"5", "-0"}} {
+		if basic.Numbers(words, &a, &b) {
+			t.Errorf("%q are not two numbers", words)
+		}
+	}
+}
+
+func TestDecimals(t *testing.T) {
+	if words := basic.Decimals(5, 0, -70); !slices.Equal(words, []string{"5", "0", "-70"}) {
+		t.Errorf("got %q", words)
+	}
+	if words := basic.Decimals(); len(words) != 0 {
+		t.Errorf("got %q", words)
+	}
+}
+
+func TestList(t *testing.T) {
+	count := func(words []string) (int, bool) { return len(words), len(words) < 3 }
+	rising := func(l []int) api.Errno {
+		if !slices.IsSorted(l) {
+			return api.ErrOrder
+		}
+		return api.OK
+	}
+	cases := []struct {
+		text string
+		want []int
+		line int
+		e    api.Errno
+	}{
+		{"", nil, 0, api.OK},
+		{"\na\nb c\n", []int{0, 1, 2}, 0, api.OK},
+		{"a\n\n", nil, 0, api.ErrOrder},
+		{"a b\na b c\n", nil, 1, api.ErrSyntax},
+		{"a\n\na b c\n", nil, 2, api.ErrSyntax},
+		{"a b\nc", nil, 1, api.ErrSyntax},
+		{strings.Repeat("x", api.MaxText+1), nil, 0, api.ErrLarge},
+	}
+	for _, c := range cases {
+		l, line, e := basic.List(c.text, count, rising)
+		if !slices.Equal(l, c.want) || line != c.line || e != c.e {
+			t.Errorf("List(%.20q) = %v, %d, %d", c.text, l, line, e)
 		}
 	}
 }

@@ -198,21 +198,7 @@ func Read(f api.Fleet, text string) ([]api.Event, int, api.Errno) {
 	if e := CheckFleet(f); e != api.OK {
 		return nil, 0, e
 	}
-	var l []api.Event
-	line, e := basic.Lines(text, func(line string) bool {
-		v, ok := readEvent(basic.Words(line))
-		if ok {
-			l = append(l, v)
-		}
-		return ok
-	})
-	if e != api.OK {
-		return nil, line, e
-	}
-	if e := Check(f, l); e != api.OK {
-		return nil, 0, e
-	}
-	return l, 0, api.OK
+	return basic.List(text, readEvent, func(l []api.Event) api.Errno { return Check(f, l) })
 }
 
 func readEvent(words []string) (api.Event, bool) {

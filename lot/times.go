@@ -92,16 +92,7 @@ func Use(f api.Fleet, l []api.Event, w api.Window) (api.Fraction, api.Errno) {
 	if all == 0 {
 		return api.Fraction{}, api.ErrNone
 	}
-	common := commonDivisor(hired, all)
-	return api.Fraction{Num: hired / common, Den: all / common}, api.OK
-}
-
-// commonDivisor is the greatest one.
-func commonDivisor(a, b int) int {
-	for b != 0 {
-		a, b = b, a%b
-	}
-	return a
+	return basic.Lowest(hired, all), api.OK
 }
 
 // Trips returns the trips of a vehicle.

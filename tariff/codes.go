@@ -23,16 +23,13 @@ func CheckCodes(l []api.Code) api.Errno {
 			return api.ErrName
 		case c.From < 0 || c.From > c.To || c.To > api.MaxDay+1:
 			return api.ErrArg
-		case !within(c.Days, 1, api.MaxDays) || !within(c.Permille, 1, wholePermille):
+		case !basic.Within(c.Days, 1, api.MaxDays) || !basic.Within(c.Permille, 1, basic.Whole):
 			return api.ErrArg
 		}
 		before = c.Key
 	}
 	return api.OK
 }
-
-// wholePermille is the whole, in thousandths.
-const wholePermille = 1000
 
 // BestCode is the code that takes the most off.
 func BestCode(l []api.Code, keys []string, class string, w api.Window, cents int) (string, int, api.Errno) {
@@ -45,7 +42,7 @@ func BestCode(l []api.Code, keys []string, class string, w api.Window, cents int
 		if !slices.Contains(keys, c.Key) || !counts(c, class, w) {
 			continue
 		}
-		if off := cents * c.Permille / wholePermille; best == "" || off > most {
+		if off := cents * c.Permille / basic.Whole; best == "" || off > most {
 			best, most = c.Key, off
 		}
 	}
@@ -68,7 +65,7 @@ func checkBestCode(l []api.Code, keys []string, class string, w api.Window, cent
 	if e := checkTime(w); e != api.OK {
 		return e
 	}
-	if !within(cents, 0, api.MaxCents) {
+	if !basic.Within(cents, 0, api.MaxCents) {
 		return api.ErrArg
 	}
 	return api.OK

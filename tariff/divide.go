@@ -4,6 +4,7 @@ import (
 	"sort"
 
 	"forecourt/api"
+	"forecourt/basic"
 )
 
 // Cost is the price of a division.
@@ -28,7 +29,7 @@ func Cost(l []api.Rate, class string, w api.Window, p []api.Piece) (int, api.Err
 
 // checkPiece says whether a piece can begin with a rental day.
 func (s stay) checkPiece(first int, p api.Piece) api.Errno {
-	if !within(p.Kind, api.PieceHours, api.PieceWeek) {
+	if !basic.Within(p.Kind, api.PieceHours, api.PieceWeek) {
 		return api.ErrKind
 	}
 	if first >= s.days() || s.seasons[first] == nil {

@@ -21,7 +21,7 @@ func CheckExtras(l []api.Extra) api.Errno {
 			return api.ErrName
 		case x.Key <= before:
 			return api.ErrOrder
-		case !within(x.Once, 0, api.MaxRate) || !within(x.Day, 0, api.MaxRate) || !within(x.Most, unbounded, api.MaxRate):
+		case !basic.Within(x.Once, 0, api.MaxRate) || !basic.Within(x.Day, 0, api.MaxRate) || !basic.Within(x.Most, unbounded, api.MaxRate):
 			return api.ErrArg
 		}
 		before = x.Key
@@ -41,7 +41,7 @@ func ExtraCost(l []api.Extra, key string, days int) (int, api.Errno) {
 	if at < 0 {
 		return 0, api.ErrNone
 	}
-	if !within(days, 1, api.MaxDays) {
+	if !basic.Within(days, 1, api.MaxDays) {
 		return 0, api.ErrArg
 	}
 	return costOfExtra(l[at], days), api.OK
@@ -89,7 +89,7 @@ func CheckFees(l []api.Fee) api.Errno {
 			return api.ErrLoop
 		case i > 0 && compareFees(l[i-1], f) >= 0:
 			return api.ErrOrder
-		case !within(f.Cents, 0, api.MaxRate):
+		case !basic.Within(f.Cents, 0, api.MaxRate):
 			return api.ErrArg
 		}
 	}

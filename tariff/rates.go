@@ -40,7 +40,7 @@ func checkRate(r api.Rate) api.Errno {
 		return api.ErrArg
 	}
 	for _, price := range [...]int{r.Hour, r.Day, r.Weekend, r.Week} {
-		if !within(price, notOffered, api.MaxRate) {
+		if !basic.Within(price, notOffered, api.MaxRate) {
 			return api.ErrArg
 		}
 	}
@@ -54,9 +54,6 @@ func compareRates(a, b api.Rate) int {
 	return cmp.Or(strings.Compare(a.Class, b.Class), cmp.Compare(a.From, b.From))
 }
 
-// within says whether a number is from one number to another one.
-func within(n, least, most int) bool { return least <= n && n <= most }
-
 // RateOn is the rate of a class on a day.
 func RateOn(l []api.Rate, class string, day int) (api.Rate, api.Errno) {
 	if e := CheckRates(l); e != api.OK {
@@ -65,7 +62,7 @@ func RateOn(l []api.Rate, class string, day int) (api.Rate, api.Errno) {
 	if !basic.IsKey(class) {
 		return api.Rate{}, api.ErrName
 	}
-	if !within(day, 0, api.MaxDay) {
+	if !basic.Within(day, 0, api.MaxDay) {
 		return api.Rate{}, api.ErrArg
 	}
 	season := seasonOn(l, class, day)

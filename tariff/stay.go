@@ -7,7 +7,7 @@ import (
 
 // Days is how many rental days a hire has.
 func Days(w api.Window) (int, api.Errno) {
-	if w.From < 0 || w.From >= w.To || w.To > api.End-1 {
+	if !basic.IsTime(w) {
 		return 0, api.ErrArg
 	}
 	days := begun(w.To-w.From, api.DayLong)

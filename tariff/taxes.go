@@ -22,7 +22,7 @@ func CheckTaxes(l []api.Tax) api.Errno {
 			return api.ErrName
 		case slices.ContainsFunc(l[:i], sameKey):
 			return api.ErrTwice
-		case !within(x.Permille, 0, wholePermille):
+		case !basic.Within(x.Permille, 0, basic.Whole):
 			return api.ErrArg
 		}
 		if e := checkOn(x.On); e != api.OK {
@@ -47,7 +47,7 @@ func checkOn(kinds []int) api.Errno {
 	return api.OK
 }
 
-func isLineKind(kind int) bool { return within(kind, api.LinePiece, api.LineOther) }
+func isLineKind(kind int) bool { return basic.Within(kind, api.LinePiece, api.LineOther) }
 
 // CheckLines says whether lines are right.
 func CheckLines(l []api.Line) api.Errno {
@@ -60,7 +60,7 @@ func CheckLines(l []api.Line) api.Errno {
 			return api.ErrKind
 		case !basic.IsKey(x.Key):
 			return api.ErrName
-		case !within(x.Cents, -api.MaxCents, api.MaxCents):
+		case !basic.Within(x.Cents, -api.MaxCents, api.MaxCents):
 			return api.ErrArg
 		}
 	}
@@ -120,10 +120,10 @@ func taxLines(taxes []api.Tax, l []api.Line) []api.Line {
 
 // partOf is so many thousandths of a number, rounded to the nearest whole number, of two to the greater one.
 func partOf(n, permille int) int {
-	raised := n*permille + wholePermille/2
-	part := raised / wholePermille
+	raised := n*permille + basic.Whole/2
+	part := raised / basic.Whole
 	// Go rounds towards 0.
-	if raised%wholePermille < 0 {
+	if raised%basic.Whole < 0 {
 		part--
 	}
 	return part
