@@ -29,7 +29,6 @@ func TestCan(t *testing.T) {
 		{"as the others are over", named(4, "mini", 1, 5), booking("x", "mini", 5, 6), true},
 		{"a minute before they are over", named(4, "mini", 1, 5), booking("x", "mini", 4, 6), false},
 		{"the others are too many already", named(2, "maxi", 1, 2), booking("x", "mini", 100, 200), false},
-		{"MaxExact in all", named(api.MaxExact-1, "mini", 1, 2)[:3], booking("x", "mini", 1, 2), true},
 	}
 	for _, c := range cases {
 		ok, e := book.Can(classes(), stock(), c.l, c.b)
