@@ -194,6 +194,10 @@ func TestPromote(t *testing.T) {
 	keys, e := book.Promote(classes(), stock(), nil, long)
 	same(t, "MaxBookings", keys, []string{key(0)})
 	is(t, "MaxBookings", e, api.OK)
+	mixed := many(api.MaxBookings, func(i int) api.Booking { return made(booking(key(i), "mini", 10*i+5, 10*i+15), 4-i%5) })
+	keys, e = book.Promote(classes(), stock(), nil, mixed)
+	same(t, "equal ones, between others", keys, []string{key(4), key(9), key(14), key(19), key(24), key(29), key(34)})
+	is(t, "equal ones, between others", e, api.OK)
 }
 
 // P3.3: each case has errors that come later, too.

@@ -157,6 +157,11 @@ func TestGreedy(t *testing.T) {
 		same(t, c.what, left, c.left)
 		is(t, c.what, e, api.OK)
 	}
+	mixed := many(api.MaxBookings, func(i int) api.Booking { return booking(key(i), "maxi", 4-i%5, 6) })
+	g, left, e := book.Greedy(classes(), stock(), mixed)
+	same(t, "the first of equal ones, between others", g, given(mixed[4:], "maxi/1"))
+	same(t, "the first of equal ones, between others", left, keysOf(slices.Delete(mixed, 4, 5)))
+	is(t, "the first of equal ones, between others", e, api.OK)
 	checksFirst(t, "Greedy", func(c []api.Class, s []api.Stock, l []api.Booking) api.Errno {
 		g, left, e := book.Greedy(c, s, l)
 		same(t, "with an error", g, nil)

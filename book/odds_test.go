@@ -104,6 +104,7 @@ func TestMost(t *testing.T) {
 		{"MaxOdds", nines(), 0, fraction(999_999, 1_000_000), 3},
 		{"MaxOdds, with more than 64 bits", nines(), 8, fraction(913_517, 1_000_000), 8},
 		{"likewise, enough", nines(), 8, fraction(913_518, 1_000_000), 9},
+		{"more than 64 bits, and the lower ones are in another order", nines(), 8, fraction(99, 100), 9},
 		{"greatest", nines(), 0, fraction(1_000_000, 1_000_000), 9},
 		{"MaxBookings units", nines(), api.MaxBookings, fraction(0, 1), 9},
 	}
