@@ -21,6 +21,14 @@ func TestWithin(t *testing.T) {
 	}
 }
 
+func TestBegun(t *testing.T) {
+	for n, want := range map[int]int{0: 0, 1: 1, 59: 1, 60: 1, 61: 2, 120: 2, 121: 3} {
+		if got := basic.Begun(n, basic.HourLong); got != want {
+			t.Errorf("%d minutes: %d hours", n, got)
+		}
+	}
+}
+
 func TestLowest(t *testing.T) {
 	const large = 1_000_000_000_000_000_000
 	for f, want := range map[[2]int]api.Fraction{

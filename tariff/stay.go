@@ -10,15 +10,12 @@ func Days(w api.Window) (int, api.Errno) {
 	if !basic.IsTime(w) {
 		return 0, api.ErrArg
 	}
-	days := begun(w.To-w.From, api.DayLong)
+	days := basic.Begun(w.To-w.From, api.DayLong)
 	if days > api.MaxDays {
 		return 0, api.ErrLarge
 	}
 	return days, api.OK
 }
-
-// begun is how many parts of some minutes are begun in a time.
-func begun(minutes, part int) int { return (minutes + part - 1) / part }
 
 // checkTime says whether the time of a hire is right.
 func checkTime(w api.Window) api.Errno {
@@ -73,7 +70,7 @@ func (s stay) pieces(first int) []api.Piece {
 		}
 	}
 	if first == s.days()-1 {
-		add(api.PieceHours, 1, season.Hour, begun(s.ends(first)-s.begins(first), hourLong))
+		add(api.PieceHours, 1, season.Hour, basic.Begun(s.ends(first)-s.begins(first), basic.HourLong))
 	}
 	add(api.PieceDay, 1, season.Day, 1)
 	for before := range s.weekendDays(first) {
@@ -86,7 +83,6 @@ func (s stay) pieces(first int) []api.Piece {
 }
 
 const (
-	hourLong = 60 // minutes
 	weekDays = 7
 	weekLong = weekDays * api.DayLong
 
