@@ -8,8 +8,8 @@ const Whole = 1000
 // HourLong is how many minutes an hour has.
 const HourLong = 60
 
-// Begun is how many parts of some minutes are begun in a time that is not below 0.
-func Begun(minutes, part int) int { return (minutes + part - 1) / part }
+// Begun is how many parts of one length are begun in a length that is not below 0.
+func Begun(long, part int) int { return (long + part - 1) / part }
 
 // Within says whether a number is from one number to another one.
 func Within(n, least, most int) bool { return least <= n && n <= most }

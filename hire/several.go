@@ -25,14 +25,6 @@ func CheckAll(l []api.Hire) api.Errno {
 	return api.OK
 }
 
-// lasts is the window in which a leg lasts.
-func lasts(l api.Leg) api.Window {
-	if isOut(l) {
-		return api.Window{From: l.Out.At, To: api.End}
-	}
-	return api.Window{From: l.Out.At, To: l.In.At}
-}
-
 // Clashes returns the hires that cannot both be.
 func Clashes(l []api.Hire) ([]api.Clash, api.Errno) {
 	if e := CheckAll(l); e != api.OK {
@@ -63,7 +55,7 @@ func clashesOf(a, b api.Hire) []api.Clash {
 // meeting is the least moment at which legs of two hires last that are alike, and whether there is one. The legs of a hire come one after the other.
 func meeting(a, b []api.Leg, alike func(x, y api.Leg) bool) (int, bool) {
 	for len(a) > 0 && len(b) > 0 {
-		x, y := lasts(a[0]), lasts(b[0])
+		x, y := basic.Lasts(a[0]), basic.Lasts(b[0])
 		from := max(x.From, y.From)
 		if from < min(x.To, y.To) && alike(a[0], b[0]) {
 			return from, true
@@ -90,7 +82,7 @@ func With(l []api.Hire, vehicle string, at int) (string, bool, api.Errno) {
 		return "", false, api.ErrArg
 	}
 	has := func(leg api.Leg) bool {
-		w := lasts(leg)
+		w := basic.Lasts(leg)
 		return leg.Vehicle == vehicle && w.From <= at && at < w.To
 	}
 	for _, h := range l {

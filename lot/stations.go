@@ -70,7 +70,7 @@ func OpenMinutes(s api.Station, w api.Window) (int, api.Errno) {
 	}
 	sum := 0
 	for day := w.From / api.DayLong; day*api.DayLong < w.To; day++ {
-		sum += overlap(hoursOn(s, day), w)
+		sum += basic.Overlap(hoursOn(s, day), w)
 	}
 	return sum, api.OK
 }
@@ -94,9 +94,4 @@ func hoursOn(s api.Station, day int) api.Window {
 	begin := day * api.DayLong
 	hours := s.Hours[day%7]
 	return api.Window{From: begin + hours.From, To: begin + hours.To}
-}
-
-// overlap is how many moments two windows share.
-func overlap(a, b api.Window) int {
-	return max(0, min(a.To, b.To)-max(a.From, b.From))
 }

@@ -35,7 +35,7 @@ func (c course) ends(i int) int {
 func (c course) spent(w api.Window) api.Spent {
 	var minutes [api.StateGone + 1]int
 	for i, s := range c {
-		minutes[s.State] += overlap(api.Window{From: s.Since, To: c.ends(i)}, w)
+		minutes[s.State] += basic.Overlap(api.Window{From: s.Since, To: c.ends(i)}, w)
 	}
 	return api.Spent{
 		None:   minutes[api.StateNone],
