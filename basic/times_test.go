@@ -1,6 +1,7 @@
 package basic_test
 
 import (
+	"slices"
 	"testing"
 
 	"forecourt/api"
@@ -38,5 +39,37 @@ func TestOverlap(t *testing.T) {
 		if n := basic.Overlap(other, w); n != want {
 			t.Errorf("%v is shared by %d moments", other, n)
 		}
+	}
+}
+
+func TestHas(t *testing.T) {
+	w := api.Window{From: 10, To: 20}
+	for at, want := range map[int]bool{-1: false, 9: false, 10: true, 15: true, 19: true, 20: false, api.End: false} {
+		if basic.Has(w, at) != want {
+			t.Errorf("%v has %d: %t", w, at, !want)
+		}
+	}
+	if basic.Has(api.Window{From: 5, To: 5}, 5) {
+		t.Errorf("a window without moments has one")
+	}
+}
+
+func TestPlateTimes(t *testing.T) {
+	l := []api.Plate{
+		{From: 0, Vehicle: "v1", Plate: "A1"},  // until v2 gets it
+		{From: 5, Vehicle: "v2", Plate: "B2"},  // until v2 gets A1
+		{From: 9, Vehicle: "v2", Plate: "A1"},  // until it gets this again
+		{From: 12, Vehicle: "v3", Plate: "C3"}, // for ever
+		{From: 15, Vehicle: "v2", Plate: "A1"}, // until v1 and v2 change
+		{From: 16, Vehicle: "v1", Plate: "D4"},
+		{From: 20, Vehicle: "v1", Plate: "A1"},
+		{From: 20, Vehicle: "v2", Plate: "D4"},
+	}
+	want := []api.Window{{From: 0, To: 9}, {From: 5, To: 9}, {From: 9, To: 15}, {From: 12, To: api.End}, {From: 15, To: 20}, {From: 16, To: 20}, {From: 20, To: api.End}, {From: 20, To: api.End}}
+	if times := basic.PlateTimes(l); !slices.Equal(times, want) {
+		t.Errorf("plates are on their vehicles in %v", times)
+	}
+	if times := basic.PlateTimes(nil); len(times) != 0 {
+		t.Errorf("no plates are on vehicles in %v", times)
 	}
 }

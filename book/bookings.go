@@ -129,7 +129,7 @@ func busiest(l []api.Booking, class string, w api.Window) (int, int) {
 func countOn(l []api.Booking, class string, at int) int {
 	n := 0
 	for _, b := range l {
-		if b.Class == class && b.Time.From <= at && at < b.Time.To {
+		if b.Class == class && basic.Has(b.Time, at) {
 			n++
 		}
 	}

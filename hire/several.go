@@ -81,10 +81,7 @@ func With(l []api.Hire, vehicle string, at int) (string, bool, api.Errno) {
 	if !basic.IsMoment(at) {
 		return "", false, api.ErrArg
 	}
-	has := func(leg api.Leg) bool {
-		w := basic.Lasts(leg)
-		return leg.Vehicle == vehicle && w.From <= at && at < w.To
-	}
+	has := func(leg api.Leg) bool { return leg.Vehicle == vehicle && basic.Has(basic.Lasts(leg), at) }
 	for _, h := range l {
 		if slices.ContainsFunc(h.Legs, has) {
 			return h.Key, true, api.OK

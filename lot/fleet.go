@@ -112,8 +112,8 @@ func PlateOf(f api.Fleet, vehicle string, at int) (string, bool, api.Errno) {
 	if e := checkMoment(at); e != api.OK {
 		return "", false, e
 	}
-	plate, has := platesAt(f.Plates, at).plateOf[vehicle]
-	return plate, has, api.OK
+	p, has := plateAt(f, at, func(p api.Plate) bool { return p.Vehicle == vehicle })
+	return p.Plate, has, api.OK
 }
 
 // VehicleOf is the vehicle that has a plate.
@@ -127,35 +127,16 @@ func VehicleOf(f api.Fleet, plate string, at int) (string, bool, api.Errno) {
 	if e := checkMoment(at); e != api.OK {
 		return "", false, e
 	}
-	vehicle, has := platesAt(f.Plates, at).vehicleOf[plate]
-	return vehicle, has, api.OK
+	p, has := plateAt(f, at, func(p api.Plate) bool { return p.Plate == plate })
+	return p.Vehicle, has, api.OK
 }
 
-// fitting is which plate is on which vehicle, looked at from both sides.
-type fitting struct {
-	plateOf, vehicleOf map[string]string
-}
-
-// platesAt is where the plates are at a moment.
-func platesAt(plates []api.Plate, at int) fitting {
-	on := fitting{map[string]string{}, map[string]string{}}
-	for _, p := range plates {
-		if p.From > at {
-			break
+// plateAt is the plate of those that are meant that is on its vehicle at a moment, and whether there is one.
+func plateAt(f api.Fleet, at int, meant func(p api.Plate) bool) (api.Plate, bool) {
+	for i, w := range basic.PlateTimes(f.Plates) {
+		if basic.Has(w, at) && meant(f.Plates[i]) {
+			return f.Plates[i], true
 		}
-		on.put(p)
 	}
-	return on
-}
-
-// put takes off the plate that the vehicle had, and takes its new plate from the vehicle that had this.
-func (on fitting) put(p api.Plate) {
-	if old, has := on.plateOf[p.Vehicle]; has {
-		delete(on.vehicleOf, old)
-	}
-	if other, has := on.vehicleOf[p.Plate]; has {
-		delete(on.plateOf, other)
-	}
-	on.plateOf[p.Vehicle] = p.Plate
-	on.vehicleOf[p.Plate] = p.Vehicle
+	return api.Plate{}, false
 }

@@ -59,25 +59,5 @@ func Merge(f api.Fleet, a, b []api.Event) ([]api.Event, api.Errno) {
 	if e := Check(f, b); e != api.OK {
 		return nil, e
 	}
-	merged := make([]api.Event, 0, len(a)+len(b))
-	for len(a) > 0 && len(b) > 0 {
-		order := compareEvents(a[0], b[0])
-		if order == 0 && a[0] != b[0] {
-			return nil, api.ErrConflict
-		}
-		if order > 0 {
-			a, b = b, a
-		}
-		merged = append(merged, a[0])
-		a = a[1:]
-		if order == 0 {
-			b = b[1:]
-		}
-	}
-	merged = append(merged, a...)
-	merged = append(merged, b...)
-	if len(merged) > api.MaxEvents {
-		return nil, api.ErrLarge
-	}
-	return merged, api.OK
+	return basic.Merge(a, b, compareEvents, api.MaxEvents)
 }

@@ -40,8 +40,7 @@ func IsOpen(s api.Station, at int) (bool, api.Errno) {
 	if e := checkStationAt(s, at); e != api.OK {
 		return false, e
 	}
-	hours := hoursOn(s, at/api.DayLong)
-	return at >= hours.From && at < hours.To, api.OK
+	return basic.Has(hoursOn(s, at/api.DayLong), at), api.OK
 }
 
 // NextOpen is the next moment at which a station is open.
