@@ -1,9 +1,8 @@
 package book
 
 import (
-	"slices"
-
 	"forecourt/api"
+	"forecourt/basic"
 )
 
 // Assign gives vehicles to all bookings, with the fewest upgrades.
@@ -31,30 +30,27 @@ type option struct {
 	vehicle vehicle
 }
 
-// assign has a vehicle for each of a few bookings, with the fewest steps in all, and whether there are enough of them. The first bookings try the first vehicles first: of several assignments with as few steps the least one is found first.
+// assign has a vehicle for each of a few bookings, with the fewest steps in all, and whether there are enough of them. Of several assignments with as few steps it is the least one, as the first bookings try the first vehicles first.
 func (p pool) assign(l []api.Booking) ([]vehicle, bool) {
 	options := p.options(l)
 	given := make([]vehicle, len(l))
-	var best []vehicle
-	least, found := 0, false
-	var giveFrom func(number, steps int)
-	giveFrom = func(number, steps int) {
-		if found && steps >= least {
-			return
-		}
-		if number == len(l) {
-			best, least, found = slices.Clone(given), steps, true
-			return
-		}
-		for _, o := range options[number] {
-			if !isTaken(l, given, number, o.vehicle) {
-				given[number] = o.vehicle
-				giveFrom(number+1, steps+o.steps)
-			}
+	give := func(numbers []int) {
+		for i, number := range numbers {
+			given[i] = options[i][number].vehicle
 		}
 	}
-	giveFrom(0, 0)
-	return best, found
+	// A booking has no more options than there are bookings.
+	numbers, _, found := basic.Cheapest(len(l), len(l), func(before []int, number int) (int, bool) {
+		booking := len(before)
+		if number >= len(options[booking]) {
+			return 0, false
+		}
+		give(before)
+		o := options[booking][number]
+		return o.steps, !isTaken(l, given, booking, o.vehicle)
+	})
+	give(numbers)
+	return given, found
 }
 
 // options are the vehicles that each booking has to try: as many as there are bookings that meet it, with itself. Whatever the others have, one of these is free; so no later one is in the least assignment.
