@@ -113,6 +113,7 @@ func TestPlanAtRandom(t *testing.T) {
 // P7.2: with as many stations, cars and roads as there can be, plans are proved too.
 func TestMostPlans(t *testing.T) {
 	r := rand.New(rand.NewSource(73))
+	count := 0
 	for round := range 40 {
 		var needs []api.Need
 		var roads []api.Road
@@ -134,5 +135,9 @@ func TestMostPlans(t *testing.T) {
 		}
 		is(t, "most", e, api.OK)
 		proved(t, "most", needs, roads, l)
+		count++
+	}
+	if count < 20 {
+		t.Errorf("only %d of these have plans", count)
 	}
 }
