@@ -1,10 +1,8 @@
 package hire
 
 import (
-	"cmp"
 	"slices"
 	"strconv"
-	"strings"
 
 	"forecourt/api"
 	"forecourt/basic"
@@ -25,9 +23,7 @@ func Events(h api.Hire) ([]api.Event, api.Errno) {
 			add(api.EventBack, l.Vehicle, l.In)
 		}
 	}
-	slices.SortFunc(events, func(a, b api.Event) int {
-		return cmp.Or(cmp.Compare(a.At, b.At), strings.Compare(a.Vehicle, b.Vehicle))
-	})
+	slices.SortFunc(events, basic.CompareEvents)
 	return events, api.OK
 }
 

@@ -1,9 +1,6 @@
 package lot
 
 import (
-	"cmp"
-	"strings"
-
 	"forecourt/api"
 	"forecourt/basic"
 )
@@ -20,7 +17,7 @@ func Check(f api.Fleet, l []api.Event) api.Errno {
 		if e := checkEvent(f, v); e != api.OK {
 			return e
 		}
-		if i > 0 && compareEvents(l[i-1], v) >= 0 {
+		if i > 0 && basic.CompareEvents(l[i-1], v) >= 0 {
 			return api.ErrOrder
 		}
 	}
@@ -47,10 +44,6 @@ func checkEvent(f api.Fleet, v api.Event) api.Errno {
 	return api.OK
 }
 
-func compareEvents(a, b api.Event) int {
-	return cmp.Or(cmp.Compare(a.At, b.At), strings.Compare(a.Vehicle, b.Vehicle))
-}
-
 // Merge puts two logs together.
 func Merge(f api.Fleet, a, b []api.Event) ([]api.Event, api.Errno) {
 	if e := Check(f, a); e != api.OK {
@@ -59,5 +52,5 @@ func Merge(f api.Fleet, a, b []api.Event) ([]api.Event, api.Errno) {
 	if e := Check(f, b); e != api.OK {
 		return nil, e
 	}
-	return basic.Merge(a, b, compareEvents, api.MaxEvents)
+	return basic.Merge(a, b, basic.CompareEvents, api.MaxEvents)
 }

@@ -2,36 +2,8 @@ package lot
 
 import (
 	"forecourt/api"
+	"forecourt/basic"
 )
-
-// changes has the state before and behind an event of each kind.
-var changes = [...]struct{ before, after int }{
-	api.EventEnter: {api.StateNone, api.StateReady},
-	api.EventOut:   {api.StateReady, api.StateHired},
-	api.EventBack:  {api.StateHired, api.StateReady},
-	api.EventShop:  {api.StateReady, api.StateShop},
-	api.EventDone:  {api.StateShop, api.StateReady},
-	api.EventLeave: {api.StateReady, api.StateMoving},
-	api.EventCome:  {api.StateMoving, api.StateReady},
-	api.EventGone:  {api.StateReady, api.StateGone},
-}
-
-// follow returns the state behind an event, and true; the state as it was, and false, if the event is broken.
-func follow(s api.State, v api.Event) (api.State, bool) {
-	change := changes[v.Kind]
-	// A state without a station can be left at any one.
-	if s.State != change.before || s.Station != "" && s.Station != v.Station {
-		return s, false
-	}
-	next := api.State{State: change.after, Since: v.At}
-	switch change.after {
-	case api.StateReady, api.StateShop:
-		next.Station = v.Station
-	case api.StateMoving:
-		next.Station = v.To
-	}
-	return next, true
-}
 
 // statesAt has the states of vehicles at a moment. What is not in it is in the first state, which is the zero value.
 func statesAt(l []api.Event, at int) map[string]api.State {
@@ -40,7 +12,7 @@ func statesAt(l []api.Event, at int) map[string]api.State {
 		if v.At > at {
 			break
 		}
-		if next, ok := follow(states[v.Vehicle], v); ok {
+		if next, ok := basic.Follow(states[v.Vehicle], v); ok {
 			states[v.Vehicle] = next
 		}
 	}
@@ -55,7 +27,7 @@ func Broken(f api.Fleet, l []api.Event) ([]int, api.Errno) {
 	var broken []int
 	states := map[string]api.State{}
 	for i, v := range l {
-		next, ok := follow(states[v.Vehicle], v)
+		next, ok := basic.Follow(states[v.Vehicle], v)
 		if !ok {
 			broken = append(broken, i)
 		}

@@ -155,28 +155,6 @@ func (r *fleetReader) plate(words []string) bool {
 	return ok
 }
 
-// eventWords has the words for the kinds of events.
-var eventWords = [...]string{
-	api.EventEnter: "enter",
-	api.EventOut:   "out",
-	api.EventBack:  "back",
-	api.EventShop:  "shop",
-	api.EventDone:  "done",
-	api.EventLeave: "leave",
-	api.EventCome:  "come",
-	api.EventGone:  "gone",
-}
-
-// kindOf is the kind with a word, which is not empty; 0 if there is none.
-func kindOf(word string) int {
-	for kind, w := range eventWords {
-		if w == word {
-			return kind
-		}
-	}
-	return 0
-}
-
 // Text writes a log.
 func Text(f api.Fleet, l []api.Event) (string, api.Errno) {
 	if e := Check(f, l); e != api.OK {
@@ -184,7 +162,7 @@ func Text(f api.Fleet, l []api.Event) (string, api.Errno) {
 	}
 	var lines basic.Writer
 	for _, v := range l {
-		words := []string{strconv.Itoa(v.At), v.Vehicle, eventWords[v.Kind], v.Station}
+		words := []string{strconv.Itoa(v.At), v.Vehicle, basic.EventWord(v.Kind), v.Station}
 		if v.Kind == api.EventLeave {
 			words = append(words, v.To)
 		}
@@ -209,7 +187,7 @@ func readEvent(words []string) (api.Event, bool) {
 	if !ok {
 		return api.Event{}, false
 	}
-	v := api.Event{At: at, Vehicle: words[1], Kind: kindOf(words[2]), Station: words[3]}
+	v := api.Event{At: at, Vehicle: words[1], Kind: basic.EventKind(words[2]), Station: words[3]}
 	rest := words[4:]
 	if v.Kind == api.EventLeave && len(rest) == 1 {
 		v.To, rest = rest[0], nil

@@ -16,7 +16,7 @@ func coursesOf(f api.Fleet, l []api.Event) map[string]course {
 	}
 	for _, v := range l {
 		c := courses[v.Vehicle]
-		if next, ok := follow(c[len(c)-1], v); ok {
+		if next, ok := basic.Follow(c[len(c)-1], v); ok {
 			courses[v.Vehicle] = append(c, next)
 		}
 	}
